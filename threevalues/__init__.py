@@ -1,0 +1,1 @@
+"""Threevalues: do some tables of three values make all?"""
