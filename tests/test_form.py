@@ -54,6 +54,16 @@ class Form(unittest.TestCase):
                 if isinstance(node, ast.Constant):
                     self.assertNotIsInstance(node.value, (float, complex), path)
 
+    def test_builtins_that_compare_take_lists(self):
+        # Boxes have equality, so these take no generator expression, and lists are not sorted in place.
+        for path, tree in self.trees.items():
+            for node in ast.walk(tree):
+                if isinstance(node, ast.Call) and isinstance(node.func, ast.Name):
+                    if node.func.id in ("any", "all", "min", "max", "sum", "sorted"):
+                        self.assertFalse(any(isinstance(x, ast.GeneratorExp) for x in node.args), path)
+                if isinstance(node, ast.Attribute):
+                    self.assertNotEqual(node.attr, "sort", path)
+
 
 if __name__ == "__main__":
     unittest.main()

@@ -2,11 +2,10 @@
 
 import inspect
 import itertools
-import random
 import unittest
 
 from tests.samples import (
-    GREATEST, LEAST, SWAP, TABLES, TABLES_1, TABLES_2, TABLES_3, UP, arguments_of, looked_up,
+    GREATEST, LEAST, SWAP, TABLES, TABLES_1, TABLES_2, TABLES_3, UP, arguments_of, looked_up, some_tables,
 )
 from threevalues import tables
 from threevalues.tables import (
@@ -19,12 +18,6 @@ PARAMETERS = {
     "put_together": ("table", "tables"), "turned_round": ("table", "places_order"), "all_tables": (),
 }
 ORDERS_3 = list(itertools.permutations((0, 1, 2)))
-
-
-def some_tables(count, many):
-    """So many tables of so many places, the same ones at each run."""
-    draw = random.Random(3 ** count + many)
-    return ["".join(draw.choice("012") for _ in range(3 ** count)) for _ in range(many)]
 
 
 class Interface(unittest.TestCase):

@@ -2,7 +2,7 @@
 
 import unittest
 
-from tests.samples import BIG, GREATEST, ODD, TABLES, TABLES_3, UP
+from tests.samples import BIG, GREATEST, ODD, TABLES, TABLES_3, UP, Calls
 from threevalues import tables
 from threevalues.errors import InvalidArguments, InvalidOrder, InvalidTable, InvalidTables
 
@@ -25,18 +25,7 @@ NO_TABLES = (
 )
 
 
-class Wrong(unittest.TestCase):
-    def raised(self, kind, given, function, *passed, **named):
-        """That the call raises just this kind of error with this very value, which it leaves as it is."""
-        before = repr((passed, named))
-        with self.assertRaises(kind) as caught:
-            function(*passed, **named)
-        self.assertIs(type(caught.exception), kind)
-        self.assertIs(caught.exception.given, given)
-        self.assertEqual(repr((passed, named)), before)
-
-
-class WrongTables(Wrong):
+class WrongTables(Calls):
     def test_each_function(self):
         for name, beside in BESIDE.items():
             function = getattr(tables, name)
@@ -74,7 +63,7 @@ class WrongTables(Wrong):
                     self.raised(InvalidTable, table, tables.is_onto, table)
 
 
-class WrongBeside(Wrong):
+class WrongBeside(Calls):
     def test_none_of_the_kinds(self):
         for name, kind in RAISED.items():
             function = getattr(tables, name)

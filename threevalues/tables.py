@@ -1,7 +1,7 @@
 """Tables of one, two or three places, as strings of the digits 0, 1 and 2."""
 
-from threevalues.errors import InvalidArguments, InvalidOrder, InvalidTables
-from threevalues.kinds import LENGTHS, are_arguments, are_tables, is_order, must_be_table
+from threevalues.errors import InvalidArguments, InvalidTables
+from threevalues.kinds import LENGTHS, are_arguments, are_tables, must_be_order, must_be_table
 
 
 def index_at(arguments):
@@ -12,12 +12,27 @@ def index_at(arguments):
     return at
 
 
+def all_ways(lots):
+    """The list of all tuples that take one thing of each lot, ordered by the first lot, then by the second one."""
+    rows = [()]
+    for lot in lots:
+        rows = [row + (x,) for row in rows for x in lot]
+    return rows
+
+
 def all_arguments(count):
     """The list of all arguments for so many places, each at the index that it writes."""
-    rows = [()]
-    for _ in range(count):
-        rows = [row + (x,) for row in rows for x in (0, 1, 2)]
-    return rows
+    return all_ways([(0, 1, 2)] * count)
+
+
+def values_of(table):
+    """A dict of the values of the table, by their arguments."""
+    return {row: int(sign) for row, sign in zip(all_arguments(places(table)), table)}
+
+
+def made_from(values, rows):
+    """What a table with these values makes from rows of values, one for each place, all of one length."""
+    return tuple([values[arguments] for arguments in zip(*rows)])
 
 
 def value(table, arguments):
@@ -68,8 +83,7 @@ def digits_of(table):
 def renamed(table, order):
     """The table with the values exchanged: order[x] in the place of each value x, of the arguments, too."""
     must_be_table(table)
-    if not is_order(order, 3):
-        raise InvalidOrder(order)
+    must_be_order(order, 3)
     signs = [""] * len(table)
     for arguments, sign in zip(all_arguments(places(table)), table):
         signs[index_at([order[x] for x in arguments])] = str(order[int(sign)])
@@ -87,8 +101,7 @@ def put_together(table, tables):
 def turned_round(table, places_order):
     """The table that gives, at some arguments, the value of the table at the same ones in another order."""
     many = places(table)
-    if not is_order(places_order, many):
-        raise InvalidOrder(places_order)
+    must_be_order(places_order, many)
     rows = all_arguments(many)
     return "".join([table[index_at([row[k] for k in places_order])] for row in rows])
 
