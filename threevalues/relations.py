@@ -17,9 +17,14 @@ WORDS = (
 )
 
 
+def is_word(x):
+    """Whether x is one of the eighteen words."""
+    return isinstance(x, str) and x in WORDS
+
+
 def must_be_word(x):
     """Raises InvalidWord if x is none of the eighteen words."""
-    if not isinstance(x, str) or x not in WORDS:
+    if not is_word(x):
         raise InvalidWord(x)
 
 
