@@ -1,6 +1,7 @@
 """The form of the package's files, as far as it can be told at a glance."""
 
 import ast
+import builtins
 import pathlib
 import unittest
 
@@ -63,6 +64,26 @@ class Form(unittest.TestCase):
                         self.assertFalse(any(isinstance(x, ast.GeneratorExp) for x in node.args), path)
                 if isinstance(node, ast.Attribute):
                     self.assertNotEqual(node.attr, "sort", path)
+
+    def test_names_have_one_meaning(self):
+        for path, tree in self.trees.items():
+            taken = set(dir(builtins)) | {node.name for node in tree.body if isinstance(node, ast.ClassDef)}
+            for node in tree.body:
+                if isinstance(node, ast.ImportFrom):
+                    taken |= {each.name for each in node.names}
+            for node in ast.walk(tree):
+                if isinstance(node, ast.arg):
+                    self.assertNotIn(node.arg, taken, path)
+                if isinstance(node, ast.Name):
+                    self.assertFalse(isinstance(node.ctx, ast.Store) and node.id in taken, (path, node.id))
+                    self.assertFalse(isinstance(node.ctx, ast.Load) and node.id == "_", path)
+
+    def test_what_is_imported_is_used(self):
+        for path, tree in self.trees.items():
+            read = {node.id for node in ast.walk(tree) if isinstance(node, ast.Name)}
+            for node in tree.body:
+                if isinstance(node, ast.ImportFrom):
+                    self.assertLessEqual({each.name for each in node.names}, read, path)
 
 
 if __name__ == "__main__":

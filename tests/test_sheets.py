@@ -191,7 +191,8 @@ class Forced(unittest.TestCase):
                 seen.add((got is None, got == sheet, got is not None and "?" in got))
                 if got is not None and got != sheet:
                     self.assertEqual(forced(got, word), got)
-        self.assertTrue(seen >= {(True, False, False), (False, True, True), (False, False, True), (False, False, False)})
+        told = {(True, False, False), (False, True, True), (False, False, True), (False, False, False)}
+        self.assertTrue(seen >= told, seen)
 
     def test_none_keeps_it(self):
         self.assertIsNone(forced("10?", "set 1"))
